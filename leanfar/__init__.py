@@ -1,0 +1,1 @@
+"""Leanfar: what is believed from afar rests on something."""
