@@ -70,11 +70,15 @@ def fits(world, reading):
 def least(world):
     """The least reading: the believed places with their heights."""
     check_world(world)
-    rules = living(world)
+    return least_heights(world[0], living(world))
+
+
+def least_heights(vouched, rules):
+    """The least heights that living rules give where just these places are vouched."""
     leaning = numbers_by_premise(rules)
     lacking = {number: len(rule[3]) for number, rule in rules.items()}
     heights = {}
-    queue = sorted([(0, place) for place in world[0]])
+    queue = sorted([(0, place) for place in vouched])
     while queue:
         height, place = heappop(queue)
         if place in heights:

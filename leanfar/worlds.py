@@ -1,6 +1,6 @@
 """Names, places, rules and worlds, what they are and which rules live."""
 
-from leanfar.errors import NoPlace, NoWorld
+from leanfar.errors import NoName, NoPlace, NoWorld
 
 
 def is_whole(thing):
@@ -80,6 +80,12 @@ def is_world(thing):
         return False
     vouched, rules, roads = thing
     return are_unlike_places(vouched) and are_rules(rules) and are_roads(roads)
+
+
+def check_name(thing):
+    """Refuse what is no name."""
+    if not is_name(thing):
+        raise NoName("this is no name")
 
 
 def check_world(thing):

@@ -181,3 +181,81 @@ def why_not_shows(world, place, paper):
             if rule[:2] == here and lives(world, rule) and not any(premise in paper for premise in rule[3]):
                 return False
     return True
+
+
+def vouching(world, vouched):
+    return (vouched, world[1], world[2])
+
+
+def falls(world, places):
+    before = least(world)
+    after = least(vouching(world, [place for place in world[0] if place not in places]))
+    return (
+        [place for place in sorted(before) if place not in after],
+        [place for place in sorted(after) if after[place] > before[place]],
+    )
+
+
+def gains(world, places):
+    before = least(world)
+    after = least(vouching(world, world[0] + places))
+    return (
+        [place for place in sorted(after) if place not in before],
+        [place for place in sorted(before) if after[place] < before[place]],
+    )
+
+
+def needed(world, place):
+    return [one for one in sorted(world[0]) if place in falls(world, [one])[0]]
+
+
+def _parts(places):
+    """All parts of a list, the small ones first, each in order."""
+    for count in range(len(places) + 1):
+        for part in itertools.combinations(sorted(places), count):
+            yield list(part)
+
+
+def _least_ones(parts, does):
+    found = []
+    for part in parts:
+        if not any(set(other) <= set(part) for other in found) and does(part):
+            found.append(part)
+    return sorted(found)
+
+
+def enough(world, place):
+    return _least_ones(_parts(world[0]), lambda part: place in least(vouching(world, part)))
+
+
+def cuts(world, place):
+    def cut(part):
+        return place not in least(vouching(world, [one for one in world[0] if one not in part]))
+    return _least_ones(_parts(world[0]), cut)
+
+
+def ring_in(leanings):
+    """Go all ways through unlike places, and of those that come back take the first of the least."""
+    found = []
+    ways = [[place] for place in leanings]
+    while ways:
+        way = ways.pop()
+        for place in leanings.get(way[-1], []):
+            if place == way[0]:
+                found.append(way)
+            elif place not in way:
+                ways.append(way + [place])
+    found = [way for way in found if way[0] == min(way)]
+    return min(found, key=lambda way: (len(way), way), default=None)
+
+
+def are_leanings(thing):
+    return type(thing) is dict and all(is_place(place) and are_places(thing[place]) for place in thing)
+
+
+def is_letter(thing):
+    if type(thing) is not tuple or len(thing) not in (2, 3) or type(thing[0]) is not str or not is_name(thing[1]):
+        return False
+    if thing[0] == "holds":
+        return len(thing) == 3 and type(thing[2]) is int and thing[2] > -1
+    return len(thing) == 2 and thing[0] in ["open", "heard"]

@@ -39,11 +39,11 @@ HANDS = ["an", "bo", "cy", "di"]
 SAYINGS = ["dry", "ice", "wet"]
 
 
-def made_world(seed, hands=HANDS, sayings=SAYINGS, most_rules=12):
+def made_world(seed, hands=HANDS, sayings=SAYINGS, most_rules=12, most_vouched=3):
     """A world by a seed: any vouched places, rules and roads."""
     chance = random.Random(seed)
     places = [(hand, saying) for hand in hands for saying in sayings]
-    vouched = chance.sample(places, chance.randint(0, 3))
+    vouched = chance.sample(places, chance.randint(0, most_vouched))
     rules = []
     for _ in range(chance.randint(0, most_rules)):
         count = chance.choice([1, 1, 1, 2, 2, 3, len(places) if len(places) < 9 else 8])
@@ -61,6 +61,15 @@ def made_worlds(count):
 def small_worlds(count):
     """Worlds of few places, so that all readings of them can be gone through."""
     return [made_world(seed, ["an", "bo"], ["dry", "wet"], 6) for seed in range(count)]
+
+
+def vouching_worlds(count):
+    """Worlds of one to eight vouched places, more rules and all roads."""
+    found = []
+    for seed in range(count):
+        vouched, rules, _ = made_world(seed, ["an", "bo", "cy"], ["dry", "ice", "map", "wet"], 20, 8)
+        found.append((vouched, rules, [("an", "bo"), ("an", "cy"), ("bo", "cy")]))
+    return found
 
 
 def letters_of(number):

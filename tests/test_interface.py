@@ -3,7 +3,7 @@
 import inspect
 import unittest
 
-from leanfar import reading, worlds
+from leanfar import hands, leaning, reading, rings, worlds
 
 LISTED = {
     worlds: {
@@ -16,7 +16,34 @@ LISTED = {
         "why_shows": ["world", "place", "paper"], "why_not": ["world", "place"],
         "why_not_shows": ["world", "place", "paper"],
     },
+    leaning: {
+        "falls": ["world", "places"], "needed": ["world", "place"], "enough": ["world", "place"],
+        "cuts": ["world", "place"], "gains": ["world", "places"],
+    },
+    rings: {"ring_in": ["leanings"]},
 }
+
+CLASSES = {
+    hands: {
+        "Hand": {
+            "__init__": ["name"], "vouch": ["saying"], "withdraw": ["saying"], "drop": ["number"],
+            "join": ["neighbour"], "part": ["neighbour"], "hear": ["neighbour", "letter"],
+            "lean": ["saying", "premises", "*cost=1"], "name": [], "neighbours": [], "height": ["saying"],
+            "settled": [], "open_ones": [], "reason": ["saying"], "rules": [], "vouched": [],
+            "heard_of": ["neighbour"], "awaited": ["saying"], "cause": ["saying"], "owed": [], "turns": [],
+        },
+    },
+}
+
+
+def taken_by(function):
+    """The arguments of a function, with * where they are handed by name, and with = what is left out."""
+    found = []
+    for parameter in inspect.signature(function).parameters.values():
+        star = "*" if parameter.kind == parameter.KEYWORD_ONLY else ""
+        left_out = "" if parameter.default is parameter.empty else f"={parameter.default!r}"
+        found.append(star + parameter.name + left_out)
+    return found
 
 
 class Interface(unittest.TestCase):
@@ -31,7 +58,20 @@ class Interface(unittest.TestCase):
     def test_each_function_takes_the_listed_arguments(self):
         for file, functions in LISTED.items():
             for name, arguments in functions.items():
-                taken = inspect.signature(getattr(file, name)).parameters
-                self.assertEqual(list(taken), arguments, name)
-                for parameter in taken.values():
-                    self.assertIs(parameter.default, parameter.empty, name)
+                self.assertEqual(taken_by(getattr(file, name)), arguments, name)
+
+    def test_each_class_and_method_is_defined_where_it_is_listed(self):
+        for file, classes in CLASSES.items():
+            for name, methods in classes.items():
+                found = getattr(file, name)
+                self.assertTrue(inspect.isclass(found), name)
+                self.assertEqual(found.__module__, file.__name__, name)
+                for method in methods:
+                    self.assertTrue(inspect.isfunction(vars(found).get(method)), (name, method))
+
+    def test_each_method_takes_the_listed_arguments(self):
+        for file, classes in CLASSES.items():
+            for name, methods in classes.items():
+                for method, arguments in methods.items():
+                    taken = taken_by(getattr(getattr(file, name), method))
+                    self.assertEqual(taken, ["self"] + arguments, (name, method))
