@@ -1,7 +1,7 @@
 """What leans on what: what goes and comes with places, and what a place needs."""
 
 from leanfar.errors import Held, NoPlace, NotHeld, NotVouched
-from leanfar.reading import least_heights, numbers_by_premise, reached
+from leanfar.reading import least_heights, reached
 from leanfar.worlds import are_unlike_places, check_place, check_world, living, place_of
 
 
@@ -98,7 +98,7 @@ def cases_believed(vouched, rules):
 
     Bit k of a number stands for case k, so one sign goes through all cases at once.
     """
-    cases = dict(vouched)
+    cases = {place: vouched[place] for place in vouched}
     leaning = numbers_by_premise(rules)
     waiting = list(rules)
     while waiting:
@@ -113,6 +113,15 @@ def cases_believed(vouched, rules):
                     following[later] = True
         waiting = list(following)
     return cases
+
+
+def numbers_by_premise(rules):
+    """The numbers of the rules that have each premise."""
+    found = {}
+    for number, rule in rules.items():
+        for premise in rule[3]:
+            found.setdefault(premise, []).append(number)
+    return found
 
 
 def cases_by(rule, cases):

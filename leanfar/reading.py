@@ -3,14 +3,14 @@
 from heapq import heappop, heappush
 
 from leanfar.errors import Held, NoPaper, NotHeld
-from leanfar.worlds import are_places, check_place, check_world, is_place, is_whole, living, place_of
+from leanfar.worlds import are_of_names, are_pairs, are_places, check_place, check_world, living, place_of
 
 
 def is_reading(thing):
     """Whether it is a dict from places to whole numbers from 0 on."""
-    if type(thing) != dict:
+    if type(thing) != dict or not are_pairs(thing) or not are_of_names(thing):
         return False
-    return all(is_place(place) and is_whole(height) and height >= 0 for place, height in thing.items())
+    return all([type(height) == int and height >= 0 for height in thing.values()])
 
 
 def check_reading(thing):
@@ -21,21 +21,26 @@ def check_reading(thing):
 
 def height_by(rule, heights):
     """What a rule gives by these heights, None where a premise has none."""
-    premises = rule[3]
-    if not all(premise in heights for premise in premises):
-        return None
-    return rule[2] + max(heights[premise] for premise in premises)
+    greatest = 0
+    for premise in rule[3]:
+        height = heights.get(premise, None)
+        if height is None:
+            return None
+        if height > greatest:
+            greatest = height
+    return rule[2] + greatest
 
 
-def least_given(world, heights):
-    """The least that any living rule gives by these heights, by places."""
-    found = {}
+def grounds_by(world, heights):
+    """The least height that each place has a ground for by these: that it is vouched, or a living rule."""
+    found = {place: 0 for place in world[0]}
     rules = living(world)
     for rule in rules.values():
-        place = place_of(rule)
         height = height_by(rule, heights)
-        if height is not None and (place not in found or height < found[place]):
-            found[place] = height
+        if height is not None:
+            place = place_of(rule)
+            if place not in found or height < found[place]:
+                found[place] = height
     return found
 
 
@@ -43,28 +48,24 @@ def is_held(world, reading):
     """Whether each place of a reading is vouched, or no lower than a living rule gives it."""
     check_world(world)
     check_reading(reading)
-    vouched = set(world[0])
-    given = least_given(world, reading)
-    for place, height in reading.items():
-        if place not in vouched and (place not in given or height < given[place]):
-            return False
-    return True
+    grounds = grounds_by(world, reading)
+    return all([place in grounds and grounds[place] <= height for place, height in reading.items()])
 
 
 def is_shut(world, reading):
     """Whether vouched places have 0, and what living rules lead to is no higher than they give."""
     check_world(world)
     check_reading(reading)
-    if not all(reading.get(place, None) == 0 for place in world[0]):
-        return False
-    given = least_given(world, reading)
-    return all(place in reading and reading[place] <= given[place] for place in given)
+    grounds = grounds_by(world, reading)
+    return all([place in reading and reading[place] <= height for place, height in grounds.items()])
 
 
 def fits(world, reading):
     """Whether a reading is held and shut."""
-    # A shut reading has each vouched place at 0 already.
-    return is_held(world, reading) and is_shut(world, reading)
+    check_world(world)
+    check_reading(reading)
+    # Held, no place is lower than its ground; shut, none is higher, and none is left out.
+    return reading == grounds_by(world, reading)
 
 
 def least(world):
@@ -75,49 +76,48 @@ def least(world):
 
 def least_heights(vouched, rules):
     """The least heights that living rules give where just these places are vouched."""
-    leaning = numbers_by_premise(rules)
-    lacking = {number: len(rule[3]) for number, rule in rules.items()}
-    heights = {}
-    queue = sorted([(0, place) for place in vouched])
-    while queue:
-        height, place = heappop(queue)
-        if place in heights:
-            continue
-        heights[place] = height
-        for number in leaning.get(place, []):
-            lacking[number] -= 1
-            # The lowest come first, so the last premise to come is the greatest.
-            if lacking[number] == 0:
-                rule = rules[number]
-                heappush(queue, (height + rule[2], place_of(rule)))
+    heights, _ = least_with_reasons(vouched, rules)
     return heights
 
 
-def numbers_by_premise(rules):
-    """The numbers of the rules that have each premise."""
-    found = {}
-    for number, rule in rules.items():
-        for premise in rule[3]:
-            found.setdefault(premise, []).append(number)
-    return found
-
-
-def reasons(world, heights):
-    """The reasons of all places of the least reading, whose heights these are."""
-    found = {place: -1 for place in world[0]}
-    rules = living(world)
-    for number, rule in rules.items():
-        place = place_of(rule)
-        if place in heights and place not in found and height_by(rule, heights) == heights[place]:
-            found[place] = number
-    return found
+def least_with_reasons(vouched, rules):
+    """The least heights that living rules give, and the reasons, where just these places are vouched."""
+    heights = {place: 0 for place in sorted(vouched)}
+    reasons = {place: -1 for place in vouched}
+    # Each rule waits for one premise that it lacks; what it gives is in the queue when it lacks none.
+    waiting = {}
+    queue = []
+    height = 0
+    asked = list(rules)
+    while asked or queue:
+        for number in asked:
+            rule = rules[number]
+            for premise in rule[3]:
+                if premise not in heights:
+                    waiting.setdefault(premise, []).append(number)
+                    break
+            else:
+                # The premise that came last is the greatest, as the least heights come first.
+                place = place_of(rule)
+                if place not in heights:
+                    heappush(queue, (height + rule[2], place, number))
+        asked = []
+        if queue:
+            # Of rules that give a place the same height the least number comes first.
+            height, place, number = heappop(queue)
+            if place not in heights:
+                heights[place] = height
+                reasons[place] = number
+                asked = waiting.pop(place, [])
+    return heights, reasons
 
 
 def reason_of(world, place):
     """The reason of a place: -1, the number of a rule, or None where it is not believed."""
     check_world(world)
     check_place(place)
-    return reasons(world, least(world)).get(place, None)
+    _, reasons = least_with_reasons(world[0], living(world))
+    return reasons.get(place, None)
 
 
 def reached(place, onward):
@@ -137,25 +137,21 @@ def why(world, place):
     """The paper that shows why a place is believed: it and all on which the reasons lean."""
     check_world(world)
     check_place(place)
-    heights = least(world)
+    heights, reasons = least_with_reasons(world[0], living(world))
     if place not in heights:
         raise NotHeld("the place is not believed")
-    numbers = reasons(world, heights)
-    onward = {leaning: world[1][number][3] for leaning, number in numbers.items() if number >= 0}
+    onward = {leaning: world[1][number][3] for leaning, number in reasons.items() if number >= 0}
     rows = sorted([(heights[needed], needed) for needed in reached(place, onward)])
-    return [(needed, numbers[needed]) for _, needed in rows]
+    return [(needed, reasons[needed]) for _, needed in rows]
 
 
 def is_paper(thing):
     """Whether it is a list of tuples of a place and a whole number."""
-    return type(thing) == list and all(is_paper_row(row) for row in thing)
-
-
-def is_paper_row(thing):
-    """Whether it is a tuple of a place and a whole number."""
-    if type(thing) != tuple or len(thing) != 2:
+    if type(thing) != list:
         return False
-    return is_place(thing[0]) and is_whole(thing[1])
+    if not all([type(row) == tuple and len(row) == 2 and type(row[1]) == int for row in thing]):
+        return False
+    return are_places([place for place, _ in thing])
 
 
 def why_shows(world, place, paper):
@@ -164,43 +160,40 @@ def why_shows(world, place, paper):
     check_place(place)
     if not is_paper(paper):
         raise NoPaper("this is no list of tuples of a place and a whole number")
-    sources = sources_by_number(world)
+    vouched = {source: [] for source in world[0]}
+    rules = living(world)
     ahead = {}
     for leaning, number in paper:
-        if leaning in ahead or not stands(leaning, sources.get(number, {}), ahead):
+        premises = premises_by(number, leaning, vouched, rules)
+        if leaning in ahead or premises is None or not all([premise in ahead for premise in premises]):
             return False
         ahead[leaning] = True
     return len(paper) > 0 and paper[-1][0] == place
 
 
-def sources_by_number(world):
-    """What places may lean on, by the numbers that a paper tells: -1, and living rules."""
-    found = {-1: {place: [] for place in world[0]}}
-    rules = living(world)
-    for number, rule in rules.items():
-        found[number] = {place_of(rule): rule[3]}
-    return found
-
-
-def stands(place, source, ahead):
-    """Whether a source has the place, and all on which it leans by it is ahead."""
-    return place in source and all(premise in ahead for premise in source[place])
+def premises_by(number, place, vouched, rules):
+    """On what a place leans by a number that a paper tells, None where it does not by this one."""
+    if number == -1:
+        return vouched.get(place, None)
+    if number in rules and place_of(rules[number]) == place:
+        return rules[number][3]
+    return None
 
 
 def why_not(world, place):
     """The set that shows why a place is not believed, in order."""
     check_world(world)
     check_place(place)
-    heights = least(world)
+    rules = living(world)
+    heights = least_heights(world[0], rules)
     if place in heights:
         raise Held("the place is believed")
     onward = {}
-    rules = living(world)
     for rule in rules.values():
-        lacking = [premise for premise in rule[3] if premise not in heights]
-        # A rule that lacks none leads to a believed place, which is never in.
-        if lacking:
-            onward.setdefault(place_of(rule), []).append(lacking[0])
+        # A rule of a place that is not believed lacks at least one premise.
+        if place_of(rule) not in heights:
+            lacked = [premise for premise in rule[3] if premise not in heights]
+            onward.setdefault(place_of(rule), []).append(lacked[0])
     return sorted(reached(place, onward))
 
 
@@ -213,12 +206,12 @@ def why_not_shows(world, place, paper):
     if place not in paper or paper != sorted(set(paper)):
         return False
     inside = {other: True for other in paper}
-    if any(vouched in inside for vouched in world[0]):
+    if any([vouched in inside for vouched in world[0]]):
         return False
     rules = living(world)
-    return all(is_barred(rule, inside) for rule in rules.values())
+    return all([is_barred(rule, inside) for rule in rules.values()])
 
 
 def is_barred(rule, inside):
     """Whether a rule leads to nothing inside, or has a premise inside."""
-    return place_of(rule) not in inside or any(premise in inside for premise in rule[3])
+    return place_of(rule) not in inside or any([premise in inside for premise in rule[3]])

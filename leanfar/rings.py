@@ -1,14 +1,14 @@
 """Rings: places each of which leads to the next one, and the last one to the first."""
 
 from leanfar.errors import NoPaper
-from leanfar.worlds import are_places, is_place
+from leanfar.worlds import are_places
 
 
 def is_leanings(thing):
     """Whether it is a dict from places to lists of places."""
-    if type(thing) != dict:
+    if type(thing) != dict or not all([type(onward) == list for onward in thing.values()]):
         return False
-    return all(is_place(place) and are_places(onward) for place, onward in thing.items())
+    return are_places(list(thing) + [place for onward in thing.values() for place in onward])
 
 
 def ring_in(leanings):

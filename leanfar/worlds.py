@@ -12,9 +12,12 @@ def is_whole(thing):
 
 def is_name(thing):
     """Whether it is a text of one to eight small letters."""
-    if type(thing) != str or not 1 <= len(thing) <= 8:
-        return False
-    return all("a" <= sign <= "z" for sign in thing)
+    return type(thing) == str and 1 <= len(thing) <= 8 and are_small_letters(thing)
+
+
+def are_small_letters(text):
+    """Whether a text, which is not empty, has small letters from a to z alone."""
+    return text.isascii() and text.isalpha() and text.islower()
 
 
 def is_place(thing):
@@ -24,62 +27,89 @@ def is_place(thing):
     return is_name(thing[0]) and is_name(thing[1])
 
 
+# Many places are judged all at once, and each text of them just once: a world names
+# the same ones again and again.
+
+
+def are_pairs(things):
+    """Whether each of these is a tuple of two texts."""
+    return all([
+        type(thing) == tuple and len(thing) == 2 and type(thing[0]) == str and type(thing[1]) == str
+        for thing in things
+    ])
+
+
+def are_of_names(pairs):
+    """Whether all texts of these pairs are names."""
+    texts = {text: True for pair in pairs for text in pair}
+    for text in texts:
+        if not 1 <= len(text) <= 8:
+            return False
+    return not texts or are_small_letters("".join(texts))
+
+
 def are_places(thing):
     """Whether it is a list of places."""
-    return type(thing) == list and all(is_place(place) for place in thing)
+    return type(thing) == list and are_pairs(thing) and are_of_names(thing)
 
 
 def are_unlike_places(thing):
     """Whether it is a list of places, none of them twice."""
-    return are_places(thing) and len(set(thing)) == len(thing)
+    return are_places(thing) and are_unlike(thing)
 
 
 def is_rule(thing):
     """Whether it is a tuple (hand, saying, cost, premises)."""
-    if type(thing) != tuple or len(thing) != 4:
-        return False
-    hand, saying, cost, premises = thing
-    if not is_name(hand) or not is_name(saying):
-        return False
-    return is_cost(cost) and are_premises(premises)
-
-
-def is_cost(thing):
-    """Whether it is a whole number from 1 on."""
-    return is_whole(thing) and thing >= 1
-
-
-def are_premises(thing):
-    """Whether it is a list of one to eight unlike places."""
-    if type(thing) != list or not 1 <= len(thing) <= 8:
-        return False
-    return are_unlike_places(thing)
-
-
-def are_rules(thing):
-    """Whether it is a list of rules."""
-    return type(thing) == list and all(is_rule(rule) for rule in thing)
-
-
-def is_road(thing):
-    """Whether it is a tuple of two unlike names, the lesser first."""
-    # Two names make a road or a place; only the order tells them apart.
-    return is_place(thing) and thing[0] < thing[1]
-
-
-def are_roads(thing):
-    """Whether it is a list of roads, none of them twice."""
-    if type(thing) != list or not all(is_road(road) for road in thing):
-        return False
-    return len(set(thing)) == len(thing)
+    return is_world(([], [thing], []))
 
 
 def is_world(thing):
     """Whether it is a tuple (vouched, rules, roads)."""
+    return places_in(thing) is not None
+
+
+def places_in(thing):
+    """The places that a world names, as keys of a dict, or None of what is no world."""
     if type(thing) != tuple or len(thing) != 3:
-        return False
+        return None
     vouched, rules, roads = thing
-    return are_unlike_places(vouched) and are_rules(rules) and are_roads(roads)
+    if type(vouched) != list or type(roads) != list:
+        return None
+    leaning = places_in_rules(rules)
+    if leaning is None or not are_pairs(vouched + leaning + roads):
+        return None
+    # Only now that all are tuples of texts they may be kept as keys or compared.
+    found = {place: True for place in vouched + leaning}
+    if not are_of_names([*found, *roads]) or not are_unlike(vouched) or not are_unlike(roads):
+        return None
+    for rule in rules:
+        if not are_unlike(rule[3]):
+            return None
+    for hand, other in roads:
+        if hand >= other:
+            return None
+    return found
+
+
+def are_unlike(pairs):
+    """Whether none of these pairs is there twice."""
+    return len(set(pairs)) == len(pairs)
+
+
+def places_in_rules(thing):
+    """What stands in a list of rules where places stand, or None of what is else no such list."""
+    if type(thing) != list:
+        return None
+    found = []
+    for rule in thing:
+        if type(rule) != tuple or len(rule) != 4:
+            return None
+        _, _, cost, premises = rule
+        if type(cost) != int or cost < 1 or type(premises) != list or not 1 <= len(premises) <= 8:
+            return None
+        found.append(rule[:2])
+        found.extend(premises)
+    return found
 
 
 def check_name(thing):
@@ -90,7 +120,7 @@ def check_name(thing):
 
 def check_world(thing):
     """Refuse what is no world."""
-    if not is_world(thing):
+    if places_in(thing) is None:
         raise NoWorld("this is no world")
 
 
@@ -102,14 +132,10 @@ def check_place(thing):
 
 def named(world):
     """The places that are vouched, lean by a rule or are a premise, in order."""
-    check_world(world)
-    vouched, rules, _ = world
-    found = set(vouched)
-    for rule in rules:
-        found.add(place_of(rule))
-        for premise in rule[3]:
-            found.add(premise)
-    return sorted(found)
+    places = places_in(world)
+    if places is None:
+        raise NoWorld("this is no world")
+    return sorted(places)
 
 
 def place_of(rule):
@@ -124,10 +150,12 @@ def living(world):
     for hand, other in roads:
         joined[(hand, other)] = True
         joined[(other, hand)] = True
-    return {number: rule for number, rule in enumerate(rules) if lives(rule, joined)}
-
-
-def lives(rule, joined):
-    """Whether each premise of a rule is near, joined telling the roads both ways."""
-    hand = rule[0]
-    return all(hand == other or (hand, other) in joined for other, _ in rule[3])
+    found = {}
+    for number, rule in enumerate(rules):
+        hand = rule[0]
+        for other, _ in rule[3]:
+            if other != hand and (hand, other) not in joined:
+                break
+        else:
+            found[number] = rule
+    return found

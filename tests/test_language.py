@@ -22,6 +22,7 @@ METHODS = {
     "append", "clear", "copy", "count", "extend", "get", "index", "insert", "items", "join", "keys", "partition",
     "pop", "remove", "reverse", "setdefault", "split", "startswith", "endswith", "isdigit", "update", "values", "add",
     "discard", "lower", "strip", "find", "replace", "bit_length",
+    "isascii", "isalpha", "islower",
 }
 
 
