@@ -75,15 +75,15 @@ def places_in(thing):
     vouched, rules, roads = thing
     if type(vouched) != list or type(roads) != list:
         return None
-    leaning = places_in_rules(rules)
-    if leaning is None or not are_pairs(vouched + leaning + roads):
+    premises = premises_in(rules)
+    if premises is None or not are_pairs(vouched + premises + roads):
         return None
     # Only now that all are tuples of texts they may be kept as keys or compared.
-    found = {place: True for place in vouched + leaning}
+    found = {place: True for place in vouched + [rule[:2] for rule in rules] + premises}
     if not are_of_names([*found, *roads]) or not are_unlike(vouched) or not are_unlike(roads):
         return None
     for rule in rules:
-        if not are_unlike(rule[3]):
+        if len(set(rule[3])) != len(rule[3]):
             return None
     for hand, other in roads:
         if hand >= other:
@@ -96,18 +96,19 @@ def are_unlike(pairs):
     return len(set(pairs)) == len(pairs)
 
 
-def places_in_rules(thing):
-    """What stands in a list of rules where places stand, or None of what is else no such list."""
+def premises_in(thing):
+    """The premises of a list of rules, whatever they are, or None where it is else no such list."""
     if type(thing) != list:
         return None
     found = []
     for rule in thing:
         if type(rule) != tuple or len(rule) != 4:
             return None
-        _, _, cost, premises = rule
-        if type(cost) != int or cost < 1 or type(premises) != list or not 1 <= len(premises) <= 8:
+        hand, saying, cost, premises = rule
+        if type(hand) != str or type(saying) != str or type(cost) != int or cost < 1:
             return None
-        found.append(rule[:2])
+        if type(premises) != list or not 1 <= len(premises) <= 8:
+            return None
         found.extend(premises)
     return found
 
