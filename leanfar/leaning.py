@@ -50,7 +50,7 @@ def needed(world, place):
     every = (1 << len(members)) - 1
     # In case k all are vouched but the k-th.
     vouched = {member: every ^ (1 << at) for at, member in enumerate(members)}
-    # In no case at all it is believed where it needs each of them.
+    # Where it needs each of them it is believed in no case at all.
     lost = every ^ cases_believed(vouched, rules).get(place, 0)
     return members_of(lost, members)
 
@@ -142,13 +142,13 @@ def all_sets(count):
 
 
 def sets_without(at, count):
-    """The cases of all sets that lack the member here."""
+    """The cases of all sets that lack the member at this place."""
     # As many in a row lack it as then have it, and so on by turns.
     return all_sets(count) // ((1 << (1 << at)) + 1)
 
 
 def sets_with(at, count):
-    """The cases of all sets that have the member here."""
+    """The cases of all sets that have the member at this place."""
     return all_sets(count) ^ sets_without(at, count)
 
 

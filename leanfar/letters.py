@@ -5,9 +5,7 @@ from leanfar.worlds import is_name, is_whole
 
 def is_letter(thing):
     """Whether it is ("holds", saying, height), ("open", saying) or ("heard", saying)."""
-    if type(thing) != tuple or not 2 <= len(thing) <= 3:
-        return False
-    if type(thing[0]) != str or not is_name(thing[1]):
+    if type(thing) != tuple or len(thing) < 2 or type(thing[0]) != str or not is_name(thing[1]):
         return False
     if thing[0] == "holds":
         return len(thing) == 3 and is_whole(thing[2]) and thing[2] >= 0

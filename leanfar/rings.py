@@ -34,7 +34,8 @@ def without_ends(leanings):
     many = {place: len(onward) for place, onward in leanings.items()}
     ends = [place for place in many if many[place] == 0] + [place for place in backward if place not in many]
     while ends:
-        for place in backward.get(ends.pop(), []):
+        end = ends.pop()
+        for place in backward.get(end, []):
             many[place] -= 1
             if many[place] == 0:
                 ends.append(place)
