@@ -101,6 +101,10 @@ class Hand:
         """Hear a letter of a neighbour."""
         if not self._may_hear(neighbour, letter):
             raise NoLetter("this is no letter that the hand may hear of it")
+        return self.hear_sent(neighbour, letter)
+
+    def hear_sent(self, neighbour, letter):
+        """Hear a letter that a hand sent, of which none need judge whether it may be heard."""
         self._take(neighbour, letter)
         return self._ended()
 
@@ -137,6 +141,18 @@ class Hand:
                 return number
         return None
 
+    def premises(self, number):
+        """The premises of the rule of this number, as it has them; none of -1 and of None."""
+        return list(self._rules[number][3]) if number in self._rules else []
+
+    def leans_on(self, saying):
+        """The premises on which a saying leans by its reason."""
+        return self.premises(self.reason(saying))
+
+    def numbers(self):
+        """The numbers of its rules, in order."""
+        return list(self._rules)
+
     def rules(self):
         """Its rules with their numbers, in order."""
         return [(number, rule[1], rule[2], list(rule[3])) for number, rule in self._rules.items()]
@@ -161,6 +177,14 @@ class Hand:
         check_name(saying)
         return self._causes.get(saying, None)
 
+    def is_open(self, saying):
+        """Whether a saying is open."""
+        return saying in self._causes
+
+    def owed_for(self, place):
+        """The sayings for which the answer to a place's giving up is owed, in order."""
+        return sorted(self._owed.get(place, {}))
+
     def owed(self):
         """The answers that are owed, each with the sayings for which it is, in order."""
         return [(place[0], place[1], sorted(self._owed[place])) for place in sorted(self._owed)]
@@ -168,6 +192,10 @@ class Hand:
     def turns(self):
         """Each settling and each giving up, as they came."""
         return list(self._turns)
+
+    def turns_behind(self, many):
+        """The turns but so many first ones."""
+        return self._turns[many:]
 
     def _may_hear(self, neighbour, letter):
         """Whether a letter may come of a neighbour as things stand."""

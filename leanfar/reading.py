@@ -184,6 +184,11 @@ def why_not(world, place):
     """The set that shows why a place is not believed, in order."""
     check_world(world)
     check_place(place)
+    return set_against(world, place)
+
+
+def set_against(world, place):
+    """The set that shows it, of what is known to be a world and a place."""
     rules = living(world)
     heights = least_heights(world[0], rules)
     if place in heights:

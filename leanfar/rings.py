@@ -15,6 +15,11 @@ def ring_in(leanings):
     """The first of the least rings, from its least place on, or None where there is none."""
     if not is_leanings(leanings):
         raise NoPaper("this is no dict from places to lists of places")
+    return least_ring(leanings)
+
+
+def least_ring(leanings):
+    """The first of the least rings of what is known to be leanings, or None where there is none."""
     onward = without_ends(leanings)
     best = None
     for start in sorted(onward):

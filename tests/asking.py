@@ -153,6 +153,25 @@ def spoil(told):
         told["spoiled"] = None
 
 
+def spoil_all(told):
+    """Do so to all lists and dicts within a told thing, too."""
+    if type(told) in (tuple, list):
+        for part in told:
+            spoil_all(part)
+    if type(told) == dict:
+        for part in told.values():
+            spoil_all(part)
+    spoil(told)
+
+
+def lists_in(told):
+    """All lists and dicts in a told thing, itself too."""
+    found = [told] if type(told) in (list, dict) else []
+    for part in told.values() if type(told) == dict else told if type(told) in (tuple, list) else []:
+        found += lists_in(part)
+    return found
+
+
 class Asking(unittest.TestCase):
     """Tests that look after what is handed in and what is told."""
 

@@ -30,6 +30,8 @@ class Pair:
         self.hand = Hand(name)
         self.plain = PlainHand(name)
         self.sayings = list(sayings)
+        # As a net would keep it (24).
+        self.log = []
         self.check("made")
 
     def check(self, when):
@@ -62,12 +64,21 @@ class Pair:
         if not same(rest, before):
             raise AssertionError(f"{what} changed what was handed in")
         kept = copied(told)
+        if type(told) != str:
+            self.note(what, before, kept)
         spoil(told[1] if type(told) == tuple else told)
         if what == "lean" and type(told) == tuple:
             # The premises are their owner's still, to change as he likes.
             spoil(rest[1])
         self.check(what)
         return kept
+
+    def note(self, what, rest, told):
+        if what == "lean":
+            saying, premises, cost = rest if len(rest) == 3 else rest + (1,)
+            self.log.append(((what, saying, cost, premises), told[1]))
+        else:
+            self.log.append(((what, *rest), told))
 
     def call(self, what, *rest):
         if what == "lean" and len(rest) == 3:
@@ -185,7 +196,7 @@ def any_deed(pair, chance, hands, growing=False):
         return ("drop", chance.choice(numbers))
     if what == "lean" and len(numbers) < 10:
         near = [(name, saying) for name in sorted(set(hands) | {hand.name}) for saying in pair.sayings]
-        premises = chance.sample(near, chance.choice([1, 1, 1, 2, 2, 3]))
+        premises = chance.sample(near, min(len(near), chance.choice([1, 1, 1, 2, 2, 3])))
         return ("lean", chance.choice(pair.sayings), premises, chance.randint(1, 3))
     return None
 

@@ -3,7 +3,7 @@
 import inspect
 import unittest
 
-from leanfar import hands, leaning, reading, rings, worlds
+from leanfar import desk, hands, leaning, logs, nets, reading, rings, texts, worlds
 
 LISTED = {
     worlds: {
@@ -21,6 +21,14 @@ LISTED = {
         "cuts": ["world", "place"], "gains": ["world", "places"],
     },
     rings: {"ring_in": ["leanings"]},
+    logs: {
+        "is_what": ["thing"], "first_wrong": ["name", "log"], "counted": ["name", "log"], "spans": ["name", "log"],
+        "woven": ["logs"],
+    },
+    texts: {
+        "show_place": ["place"], "read_place": ["text"], "show_rule": ["rule"], "read_rule": ["text"],
+        "show_letter": ["letter"], "read_letter": ["text"], "show_what": ["what"], "read_what": ["text"],
+    },
 }
 
 CLASSES = {
@@ -33,6 +41,19 @@ CLASSES = {
             "heard_of": ["neighbour"], "awaited": ["saying"], "cause": ["saying"], "owed": [], "turns": [],
         },
     },
+    nets: {
+        "Net": {
+            "__init__": [], "come": ["hand"], "join": ["hand", "other"], "part": ["hand", "other"],
+            "vouch": ["hand", "saying"], "withdraw": ["hand", "saying"], "drop": ["hand", "number"],
+            "step": ["hand", "other"], "lean": ["hand", "saying", "premises", "*cost=1"], "rest": [], "hands": [],
+            "roads": [], "world": [], "heights": [], "open_places": [], "lying": [], "lane": ["hand", "other"],
+            "leans_on": ["place"], "ring": [], "why": ["place"], "blame": ["place"], "waits_for": ["place"],
+            "log": ["hand"], "height": ["hand", "saying"], "reason": ["hand", "saying"],
+            "awaited": ["hand", "saying"], "cause": ["hand", "saying"], "owed": ["hand"], "turns": ["hand"],
+            "heard_of": ["hand", "neighbour"],
+        },
+    },
+    desk: {"Desk": {"__init__": [], "say": ["row"]}},
 }
 
 
