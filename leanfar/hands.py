@@ -3,7 +3,7 @@
 from leanfar.errors import NoLetter, NoRoad, NoRule, NotVouched, Twice
 from leanfar.letters import is_letter
 from leanfar.reading import height_by
-from leanfar.worlds import check_name, is_name, is_rule, is_whole
+from leanfar.worlds import check_name, is_rule, is_whole
 
 
 class Hand:
@@ -13,6 +13,7 @@ class Hand:
         """A hand of this name, alone and without beliefs."""
         check_name(name)
         self._name = name
+        # Names alone are keys here: what is one of these texts need not be judged as a name.
         self._neighbours = {}
         self._vouched = {}
         # Each rule by its number; and the numbers by sayings that lean, and by premises.
@@ -44,7 +45,7 @@ class Hand:
 
     def withdraw(self, saying):
         """Vouch for a saying no more."""
-        if not is_name(saying) or saying not in self._vouched:
+        if type(saying) != str or saying not in self._vouched:
             raise NotVouched("the hand does not vouch for this")
         del self._vouched[saying]
         self._look(saying, None)
@@ -84,7 +85,7 @@ class Hand:
 
     def part(self, neighbour):
         """Part from a neighbour, and from all that came of it."""
-        if not is_name(neighbour) or neighbour not in self._neighbours:
+        if type(neighbour) != str or neighbour not in self._neighbours:
             raise NoRoad("this is no neighbour")
         del self._neighbours[neighbour]
         self._forget(neighbour)
@@ -163,7 +164,7 @@ class Hand:
 
     def heard_of(self, neighbour):
         """The sayings heard of a neighbour, or of itself, with their heights, in order."""
-        if not is_name(neighbour) or (neighbour != self._name and neighbour not in self._neighbours):
+        if type(neighbour) != str or (neighbour != self._name and neighbour not in self._neighbours):
             raise NoRoad("this is no neighbour, nor the hand itself")
         return sorted([(place[1], height) for place, height in self._heard.items() if place[0] == neighbour])
 
@@ -199,7 +200,7 @@ class Hand:
 
     def _may_hear(self, neighbour, letter):
         """Whether a letter may come of a neighbour as things stand."""
-        if not is_name(neighbour) or neighbour not in self._neighbours or not is_letter(letter):
+        if type(neighbour) != str or neighbour not in self._neighbours or not is_letter(letter):
             return False
         saying = letter[1]
         height = self._heard.get((neighbour, saying), None)

@@ -12,7 +12,7 @@ PARTS = {"vouch": 2, "withdraw": 2, "lean": 4, "drop": 2, "join": 2, "part": 2, 
 
 def is_worded(thing):
     """Whether it is a tuple that has a what's word and as many parts as that asks."""
-    if type(thing) != tuple or len(thing) < 2 or type(thing[0]) != str:
+    if type(thing) != tuple or len(thing) == 0 or type(thing[0]) != str:
         return False
     return len(thing) == PARTS.get(thing[0], 0)
 

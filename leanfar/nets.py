@@ -14,6 +14,7 @@ class Net:
 
     def __init__(self):
         """A net without hands."""
+        # Names alone are keys here: what is one of these texts need not be judged as a name.
         self._hands = {}
         self._logs = {}
         # Two lanes for each road, by tuples (from, to), whether any letter lies there or not.

@@ -19,7 +19,7 @@ class Weaving:
     def order(self):
         """Who goes on, the least name that can each time, until none can."""
         names = []
-        self._ask(sorted(self._logs))
+        self._ask(list(self._logs))
         while self._ready:
             name = heappop(self._ready)
             del self._is_ready[name]

@@ -372,6 +372,12 @@ class Woven(Playing):
         ring["cy"].reverse()
         self.weaves(["bo", "an", "an"], {name: [(("join", other), []) for other in ring[name]] for name in ring})
 
+    def test_who_wants_to_join_one_that_joins_another_first(self):
+        joins = {"an": ["bo"], "bo": ["an"], "cy": ["bo"]}
+        self.weaves(None, {name: [(("join", other), []) for other in joins[name]] for name in joins})
+        joins["bo"].append("cy")
+        self.weaves(["an", "bo"], {name: [(("join", other), []) for other in joins[name]] for name in joins})
+
     def test_logs_of_nets(self):
         for seed in range(40):
             logs = net_logs(seed, hands=1 + seed % 5)

@@ -1,5 +1,7 @@
 """Nets, by rows of deeds written by hand (points 2, 3 and 21 to 24)."""
 
+from unittest import mock
+
 from leanfar.nets import Net
 from tests import plain
 from tests.asking import ODD, Asking, changed, deep_list, list_in_itself, lists_in, same
@@ -301,6 +303,19 @@ class Telling(Playing):
         self.play("withdraw an rain; step an bo")
         self.tells([], net.leans_on, place("an.rain"))
         self.refuses("NoHand", net.leans_on, ("zo", "wet"))
+
+    def test_the_ring_is_looked_for_in_what_places_lean_on(self):
+        net = self.start("""
+            come an; come bo; join an bo; vouch an rain; lean bo wet 1 an.rain; lean an wet 1 bo.wet an.rain
+            lean an mud 1 an.cold; lean bo wet 5 an.wet; rest
+        """)
+        self.tells(None, net.ring)
+        expected = {place("an.rain"): [], place("an.wet"): places("bo.wet an.rain"), place("bo.wet"): places("an.rain")}
+        for told in [None, places("an.wet bo.wet")]:
+            # No row of deeds leads to a ring, so the looking is looked at.
+            with mock.patch("leanfar.nets.least_ring", return_value=told) as least_ring:
+                self.assertEqual(net.ring(), told)
+            self.assertEqual(least_ring.call_args.args, (expected,))
 
     def test_why_with_the_numbers_of_the_world(self):
         net = self.start("""
