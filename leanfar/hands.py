@@ -132,7 +132,12 @@ class Hand:
 
     def reason(self, saying):
         """By what a saying is settled: -1, the least number of such a rule, or None."""
-        height = self.height(saying)
+        check_name(saying)
+        return self.ground(saying)
+
+    def ground(self, saying):
+        """The reason of what is known to be a saying."""
+        height = self._heights.get(saying, None)
         if height is None:
             return None
         if saying in self._vouched:
@@ -147,8 +152,8 @@ class Hand:
         return list(self._rules[number][3]) if number in self._rules else []
 
     def leans_on(self, saying):
-        """The premises on which a saying leans by its reason."""
-        return self.premises(self.reason(saying))
+        """The premises on which what is known to be a saying leans by its reason."""
+        return self.premises(self.ground(saying))
 
     def numbers(self):
         """The numbers of its rules, in order."""

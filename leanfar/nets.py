@@ -265,7 +265,7 @@ class Net:
             here = waiting.pop()
             if here not in reasons:
                 hand = self._hands[here[0]]
-                reasons[here] = hand.reason(here[1])
+                reasons[here] = hand.ground(here[1])
                 waiting.extend(hand.premises(reasons[here]))
         return reasons
 
